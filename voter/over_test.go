@@ -104,23 +104,25 @@ func TestNotOver(t *testing.T) {
 		done(promised(accepted(holder(d, at(60, 0)), 4, n.V), 4), value(at(60, 0), c)), done(holder(h, lastStamp), value(lastStamp, c, d)))
 }
 
-// TestOverInTheMidst is P14.1 (V1): in the midst of those that wait, those ahead are answered, those behind are not gone
-// through, and stay as they were.
+// TestOverInTheMidst is P14.1 (V1): a stable that makes it over in the midst of those that wait is told nothing, not what
+// those ahead were to be answered, either; what they put stays, and those behind are not gone through, and stay as they were.
 func TestOverInTheMidst(t *testing.T) {
 	a, b, c, h := place(17, 0), place(33, 0), place(49, 0), place(256, 0)
 	no, nor, yes := propose(1, 0, a, value(at(10, 1))), propose(2, 2, b, value(at(20, 2))), propose(3, 0, c, value(at(30, 3)))
 	is := value(at(90, 0), c)
 	for _, x := range []struct {
-		left int // how many fresh timestamps there are
+		left int // how many fresh timestamps there are; two are needed
 		row  []api.Msg
 		told []api.Msg
 		okay bool // to the last one
 	}{
+		{3, msgs(no, yes, nor), msgs(refuse(no, at(lastClock-2, me), h), quick(yes), refuse(nor, at(lastClock-1, me), c, h)), true},
 		{2, msgs(no, yes, nor), msgs(refuse(no, at(lastClock-1, me), h), quick(yes), refuse(nor, at(lastClock, me), c, h)), true},
-		{1, msgs(no, nor, yes), msgs(refuse(no, at(lastClock, me), h)), false},
-		{1, msgs(no, yes, nor), msgs(refuse(no, at(lastClock, me), h), quick(yes)), true},
-		{1, msgs(yes, no, nor), msgs(quick(yes), refuse(no, at(lastClock, me), c, h)), true},
-		{0, msgs(yes, no, nor), msgs(quick(yes)), true},
+		{2, msgs(no, nor, yes), msgs(refuse(no, at(lastClock-1, me), h), refuse(nor, at(lastClock, me), h), quick(yes)), true},
+		{1, msgs(no, nor, yes), nil, false},
+		{1, msgs(no, yes, nor), nil, true},
+		{1, msgs(yes, no, nor), nil, true},
+		{0, msgs(yes, no, nor), nil, true},
 		{0, msgs(no, yes, nor), nil, false},
 		{0, msgs(nor, no, yes), nil, false},
 	} {
@@ -136,11 +138,85 @@ func TestOverInTheMidst(t *testing.T) {
 			last, changed = voted(holder(c, at(30, 3)), yes.V), names(49, 256)
 		}
 		l := list(bare(a), freed(promised(bare(b), 2)), last, done(holder(h, at(90, 0)), is))
-		if x.left == 2 {
+		if x.left >= 2 {
 			waits(t, v)
-			has(t, v, lastClock, changed, l...)
+			has(t, v, lastClock-x.left+2, changed, l...)
 		} else {
 			isOver(t, v, changed, l...)
+		}
+	}
+}
+
+// TestOverBehindEach is P14.1 (V1): whatever those ahead were to be answered, reject, okay and refuse, nothing is told, if
+// one behind makes it over; with enough fresh timestamps all are told, in order.
+func TestOverBehindEach(t *testing.T) {
+	a, b, c, h := place(17, 0), place(33, 0), place(49, 0), place(256, 0)
+	_, l := held(t)
+	rule := func(i, left int, p ...api.Cmd) api.Msg { return refuse(l[i], at(lastClock-left, me), p...) }
+	free, kept, yes := voted(holder(a, at(12, 2)), l[1].V), promised(bare(b), 2), promised(holder(b, at(16, 0)), 2)
+	for _, x := range []struct {
+		left       int       // how many fresh timestamps there are
+		p          []api.Cmd // what h is done with
+		told, wait []api.Msg // nothing, both, if it is over
+		changed    []int
+		a, b       entry.Entry
+	}{
+		{3, nil, msgs(reject(l[0], 3), rule(1, 2, h), reject(l[2], 3), rule(3, 1, h), rule(4, 0, h)), nil, names(256), bare(a), kept},
+		{2, nil, nil, nil, names(256), bare(a), kept},
+		{1, nil, nil, nil, names(256), bare(a), kept},
+		{0, nil, nil, nil, names(256), bare(a), kept},
+		{2, cmds(a), msgs(reject(l[0], 3), quick(l[1]), reject(l[2], 3), rule(3, 1, a, h), rule(4, 0, a, h)), nil, names(17, 256), free, kept},
+		{1, cmds(a), nil, nil, names(17, 256), free, kept},
+		{0, cmds(a), nil, nil, names(17, 256), free, kept},
+		{2, cmds(b), msgs(reject(l[0], 3), rule(1, 1, h), reject(l[2], 3), okay(l[3]), rule(4, 0, b, h)), nil, names(33, 256), bare(a), yes},
+		{1, cmds(b), nil, nil, names(33, 256), bare(a), yes},
+		{0, cmds(b), nil, nil, names(256), bare(a), kept},
+		{1, cmds(a, c), msgs(reject(l[0], 3), quick(l[1]), reject(l[2], 3), rule(3, 0, a, h)), l[4:], names(17, 256), free, kept},
+		{0, cmds(a, c), nil, nil, names(17, 256), free, kept},
+		{0, cmds(a, b, c), msgs(reject(l[0], 3), quick(l[1]), reject(l[2], 3)), l[3:], names(17, 256), free, kept},
+	} {
+		v, _ := held(t)
+		v.See(at(lastClock-x.left, 0))
+		is := value(at(91, 0), x.p...)
+		tells(t, v, stable(5, h, is), x.told...)
+		all := list(x.a, x.b, freed(promised(bare(c), 3)), done(holder(h, at(90, 0)), is))
+		if x.told == nil {
+			isOver(t, v, x.changed, all...)
+		} else {
+			waits(t, v, x.wait...)
+			has(t, v, lastClock, x.changed, all...)
+		}
+	}
+}
+
+// TestOverBehindSettled is P14.1 (V1): nor are those told that the stable itself settles.
+func TestOverBehindSettled(t *testing.T) {
+	c, d, h := place(49, 0), place(33, 0), place(256, 0)
+	one, two, beside := propose(0, 0, c, value(at(20, 2))), propose(8, 0, c, value(at(21, 0))), propose(3, 0, d, value(at(20, 3)))
+	is := value(at(50, 0), h)
+	for left := range 2 {
+		for _, row := range [][]api.Msg{{one, two, beside}, {one, beside, two}, {beside, one, two}} {
+			v := made(t, lastClock-left, holder(h, at(90, 0)))
+			told := make([]api.Msg, 0, len(row))
+			for _, m := range row {
+				tells(t, v, m)
+				if m.Cmd == c {
+					told = append(told, settled(m, is))
+				} else {
+					told = append(told, refuse(m, at(lastClock, me), c, h))
+				}
+			}
+			waits(t, v, row...)
+			v.Changed()
+			l := list(bare(d), done(bare(c), is), holder(h, at(90, 0)))
+			if left > 0 {
+				tells(t, v, stable(1, c, is), told...)
+				waits(t, v)
+				has(t, v, lastClock, names(49), l...)
+			} else {
+				tells(t, v, stable(1, c, is))
+				isOver(t, v, names(49), l...)
+			}
 		}
 	}
 }

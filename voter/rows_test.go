@@ -145,6 +145,12 @@ func (w *words) handle(m api.Msg) []api.Msg {
 		}
 		told = append(told, w.answer(m, "waited")...)
 	}
+	if w.over {
+		if len(told) > 0 {
+			w.did["told no more"]++
+		}
+		return nil
+	}
 	return told
 }
 
@@ -321,15 +327,16 @@ func TestShortRows(t *testing.T) {
 			}
 		}
 	}
-	// For one to be left two have to wait, and a stable has to come behind, which is one message more.
-	enough(t, did, 50, "left")
+	// For one to be left two have to wait, and a stable has to come behind, which is one message more. That one is told no
+	// more takes as many, but where a proposal waits that the stable settles.
+	enough(t, did, 50, "left", "told no more")
 }
 
 // enough tells whether each of what a voter can do was done, but what is left out.
 func enough(t *testing.T, did map[string]int, least int, out ...string) {
 	t.Helper()
 	for _, k := range []string{
-		"not taken", "not learned", "done with another one", "over", "left", "accept at nought", "waits", "waits instead",
+		"not taken", "not learned", "done with another one", "over", "left", "told no more", "accept at nought", "waits", "waits instead",
 		"propose came: okay true", "propose came: okay false", "propose came: refuse false", "propose came: reject false", "propose came: stable false",
 		"propose waited: okay true", "propose waited: okay false", "propose waited: refuse false", "propose waited: reject false", "propose waited: stable false",
 		"prepare came: promise true", "prepare came: promise false", "prepare came: reject false", "prepare came: stable false",
